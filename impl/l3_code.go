@@ -208,19 +208,28 @@ func turnRound(n int, size int) int {
 	return turned
 }
 
+// codeBits is the bits of each symbol, by a code that is ok.
+func codeBits(lengths []int) []Bit {
+	bits := make([]Bit, len(lengths))
+	for symbol, number := range CodeMake(lengths) {
+		size := lengths[symbol]
+		bits[symbol] = Bit{Value: turnRound(number, size), Size: size}
+	}
+	return bits
+}
+
 // CodePut is symbols as bits.
 func CodePut(list []int, lengths []int) []Bit {
 	if !CodeOk(lengths) || len(list) > TextMax {
 		return nil
 	}
-	numbers := CodeMake(lengths)
+	bits := codeBits(lengths)
 	out := make([]Bit, len(list))
 	for i, symbol := range list {
 		if symbol < 0 || symbol >= len(lengths) || lengths[symbol] == 0 {
 			return nil
 		}
-		size := lengths[symbol]
-		out[i] = Bit{Value: turnRound(numbers[symbol], size), Size: size}
+		out[i] = bits[symbol]
 	}
 	return out
 }
