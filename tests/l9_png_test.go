@@ -550,6 +550,16 @@ func TestPngPutOfWrongArguments(t *testing.T) {
 	}
 }
 
+func TestPromise46APictureComesOutOfAPng(t *testing.T) {
+	for i, m := range pictures() {
+		for _, w := range pngWays() {
+			if got, ok := impl.PngGet(w.put(m)); !ok || !samePicture(got, m) {
+				t.Fatalf("picture %d, %v: %v %v, not %v", i, w, got, ok, m)
+			}
+		}
+	}
+}
+
 func TestPromise47HoweverItIsWrittenTheSameComesOut(t *testing.T) {
 	for i, m := range pictures() {
 		texts := map[string]pngWay{}
